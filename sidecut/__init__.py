@@ -1,0 +1,1 @@
+"""Sidecut: a cutter led beside a path, by fractions."""

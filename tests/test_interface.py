@@ -1,0 +1,31 @@
+"""The interface of the document: names and arguments as they stand there."""
+
+import importlib
+import inspect
+import unittest
+
+TOLD = {
+    "fractions": {
+        "is_fraction": ["thing"], "fraction": ["n", "d"], "added": ["one", "other"],
+        "taken": ["one", "other"], "times": ["one", "other"], "over": ["one", "other"],
+        "compared": ["one", "other"], "root_of": ["one"],
+    },
+    "points": {
+        "plus": ["one", "other"], "minus": ["one", "other"], "scaled": ["vector", "by"],
+        "dot": ["one", "other"], "cross": ["one", "other"], "left_of": ["vector"],
+        "length_of": ["vector"], "unit_of": ["vector"],
+    },
+    "errors": {"BadSheet": ["row"]},
+}
+
+
+class Interface(unittest.TestCase):
+    def test_names_and_arguments(self):
+        for file, names in TOLD.items():
+            module = importlib.import_module(f"sidecut.{file}")
+            for name, arguments in names.items():
+                taken = inspect.signature(getattr(module, name)).parameters.values()
+                self.assertEqual([one.name for one in taken], arguments, name)
+                for one in taken:
+                    self.assertIs(one.kind, inspect.Parameter.POSITIONAL_OR_KEYWORD, name)
+                    self.assertIs(one.default, inspect.Parameter.empty, name)
