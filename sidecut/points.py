@@ -34,6 +34,18 @@ def left_of(vector):
     return ((-y[0], y[1]), x)
 
 
+def right_of(vector):
+    """The vector turned to the right by a quarter turn."""
+    x, y = vector
+    return (y, (-x[0], x[1]))
+
+
+def flipped(vector):
+    """The vector mirrored: -x in the place of x."""
+    x, y = vector
+    return ((-x[0], x[1]), y)
+
+
 def length_of(vector):
     """The vector's length, or None where no fraction is its length."""
     return root_of(dot(vector, vector))

@@ -15,6 +15,18 @@ TOLD = {
         "dot": ["one", "other"], "cross": ["one", "other"], "left_of": ["vector"],
         "length_of": ["vector"], "unit_of": ["vector"],
     },
+    "turns": {
+        "turned": ["unit", "by"], "quarters_between": ["one", "other", "steps"],
+        "units_between": ["one", "other", "steps"], "least_dot": ["units"],
+        "tip_of": ["one", "other"],
+    },
+    "paths": {
+        "is_path": ["thing"], "ends_of": ["path"], "is_closed": ["path"],
+        "radius_of": ["path", "number"], "headings": ["path", "number"], "corners": ["path"],
+        "turned_about": ["path"], "mirrored": ["path"], "moved": ["path", "vector"],
+    },
+    "near": {"apart": ["path", "number", "point"], "is_near": ["path", "point", "by"]},
+    "blocks": {"blocks": ["path", "far", "steps"], "most_off": ["path", "far", "steps"]},
     "errors": {"BadSheet": ["row"]},
 }
 

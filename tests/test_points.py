@@ -1,7 +1,8 @@
 """Promises [2] and [4]: points.py."""
 
 from sidecut.fractions import is_fraction
-from sidecut.points import cross, dot, left_of, length_of, minus, plus, scaled, unit_of
+from sidecut.points import (cross, dot, flipped, left_of, length_of, minus, plus, right_of, scaled,
+                            unit_of)
 from tests.kinds import BIG, BIGGER, FRACTIONS, Kinds, value, whole
 
 NOUGHT = whole(0, 0)
@@ -75,6 +76,14 @@ class LeftOf(Kinds):
         for vector in VECTORS:
             x, y = map(value, vector)
             self.assert_is_vector(left_of(vector), -y, x)
+
+
+class RightOfAndFlipped(Kinds):
+    def test_all(self):
+        for vector in VECTORS:
+            x, y = map(value, vector)
+            self.assert_is_vector(right_of(vector), y, -x)
+            self.assert_is_vector(flipped(vector), -x, y)
 
 
 class LengthOf(Kinds):
