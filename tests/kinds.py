@@ -1,6 +1,7 @@
 """What the tests share: checks of what is told, by Python's own means, and samples."""
 
 import math
+import random
 import unittest
 from fractions import Fraction
 
@@ -194,6 +195,216 @@ def about_way(path, x, y):
     return min(ways)
 
 
+def outline_of(block):
+    """A block's corners as pairs."""
+    return [pair(corner) for corner in block[2]]
+
+
+def edges_of(outline):
+    """The edges of an outline of pairs, in order."""
+    return list(zip(outline, outline[1:] + outline[:1]))
+
+
+def crossed(one, other):
+    """The cross of two pairs."""
+    return one[0] * other[1] - one[1] * other[0]
+
+
+def less(one, other):
+    """The one pair less the other."""
+    return (one[0] - other[0], one[1] - other[1])
+
+
+def between(one, other, part):
+    """The pair that is so far along from the one to the other."""
+    return (one[0] + (other[0] - one[0]) * part, one[1] + (other[1] - one[1]) * part)
+
+
+def off_edge(edge, at):
+    """Above 0 where the pair is to the left of the edge."""
+    return crossed(less(edge[1], edge[0]), less(at, edge[0]))
+
+
+def own_is_within(outlines, at):
+    """Whether a round about the pair is in the outlines together, by all directions from there."""
+    cones = []
+    for outline in outlines:
+        offs = [(off_edge(edge, at), less(edge[1], edge[0])) for edge in edges_of(outline)]
+        if min(off for off, _ in offs) >= 0:
+            cones.append([way for off, way in offs if off == 0])
+    if [] in cones:
+        return True
+    ways = {way for cone in cones for way in cone}
+    ways |= {(-x, -y) for x, y in ways} | {(1, 0), (0, 1), (-1, 0), (0, -1)}
+    ring = sorted(ways, key=lambda way: turn_between((1, 0), way))
+    turns = [turn_between((1, 0), way) for way in ring]
+    for number, one in enumerate(ring):
+        if turns[number] == turns[number - 1]:
+            continue
+        # The next direction that isn't the same; axes stand in the ring, so it is a quarter on at most.
+        other = next(ring[(number + k) % len(ring)] for k in range(1, len(ring))
+                     if turns[(number + k) % len(ring)] != turns[number])
+        middle = (one[0] + other[0], one[1] + other[1])
+        if not any(all(crossed(way, middle) > 0 for way in cone) for cone in cones):
+            return False
+    return True
+
+
+def crossing_parts(begin, end, outlines):
+    """The parts of the way from begin to end, rising from 0 to 1, where it may come into an outline or out of it."""
+    found = {Fraction(0), Fraction(1)}
+    for outline in outlines:
+        for edge in edges_of(outline):
+            first, last = off_edge(edge, begin), off_edge(edge, end)
+            if first != last and min(first, last) <= 0 <= max(first, last):
+                found.add(first / (first - last))
+        for corner in outline:
+            if crossed(less(end, begin), less(corner, begin)) == 0:
+                way = 0 if begin[0] != end[0] else 1
+                found.add((corner[way] - begin[way]) / (end[way] - begin[way]))
+    return sorted(part for part in found if 0 <= part <= 1)
+
+
+def own_rim(blocks, marks):
+    """The rim as the document's words have it, by a look at the middle between all crossings."""
+    outlines = [outline_of(block) for block in blocks]
+    found = []
+    for number, block in enumerate(blocks):
+        for edge, (begin, end) in enumerate(edges_of(outlines[number])):
+            if block[3][edge] not in marks:
+                continue
+            parts, bare = crossing_parts(begin, end, outlines), []
+            for low, high in zip(parts, parts[1:]):
+                at = between(begin, end, (low + high) / 2)
+                if own_is_within(outlines, at) or is_twin(blocks[:number], marks, begin, end, at):
+                    continue
+                if bare and bare[-1][1] == low:
+                    low = bare.pop()[0]
+                bare.append((low, high))
+            for low, high in bare:
+                found.append((number, edge, point(*between(begin, end, low)), point(*between(begin, end, high))))
+    return found
+
+
+def is_twin(ahead, marks, begin, end, at):
+    """Whether at is on an edge so marked of one of the blocks ahead that goes from begin to end, too."""
+    for block in ahead:
+        for (one, other), mark in zip(edges_of(outline_of(block)), block[3]):
+            (dx, dy), (x, y) = less(end, begin), less(other, one)
+            goes_along = dx * y - dy * x == 0 and dx * x + dy * y > 0
+            if mark in marks and goes_along and off_edge((one, other), at) == 0:
+                if min(one, other) <= at <= max(one, other):
+                    return True
+    return False
+
+
+def own_size(blocks):
+    """How much the blocks cover, by upright slices between all places where edges begin, end or cross."""
+    edges = [edge for block in blocks for edge in edges_of(outline_of(block))]
+    across = {x for edge in edges for x, _ in edge}
+    for one in edges:
+        for other in edges:
+            first, last = off_edge(one, other[0]), off_edge(one, other[1])
+            if first * last < 0:
+                across.add(between(*other, first / (first - last))[0])
+    across, size = sorted(across), Fraction(0)
+    for left, right in zip(across, across[1:]):
+        middle, spans = (left + right) / 2, []
+        for block in blocks:
+            heights = []
+            for (x, y), (to_x, to_y) in edges_of(outline_of(block)):
+                if min(x, to_x) < middle < max(x, to_x):
+                    heights.append(y + (to_y - y) * (middle - x) / (to_x - x))
+            if heights:
+                spans.append((min(heights), max(heights)))
+        size += (right - left) * length_together(spans)
+    return size
+
+
+def length_together(spans):
+    """How long spans (low, high) are together, what is in several once."""
+    total, reached = Fraction(0), None
+    for low, high in sorted(spans):
+        if reached is None or low > reached:
+            reached = low
+        if high > reached:
+            total, reached = total + high - reached, high
+    return total
+
+
+def grid_block(asker, number):
+    """A block with corners on a small grid, so that much of it meets others just at their bounds."""
+    while True:
+        spots = {(asker.randint(0, 5), asker.randint(0, 5)) for _ in range(asker.choice((3, 4, 4, 6)))}
+        if asker.random() < 0.5:
+            (a, b), (c, d) = asker.sample([(x, y) for x in range(6) for y in range(6)], 2)
+            spots = {(a, b), (a, d), (c, b), (c, d)}
+        outline = hull_of(sorted(spots), asker.random() < 0.5)
+        if len(outline) > 2:
+            shift = asker.randrange(len(outline))
+            outline = outline[shift:] + outline[:shift]
+            marks = "".join(asker.choice("lrbe-") for _ in outline)
+            return ("strip", number, tuple(whole(x, y) for x, y in outline), marks)
+
+
+def hull_of(spots, keeps_straight):
+    """The outline round sorted pairs, to the left; keeps_straight: also with corners that go straight on."""
+    def half(rows):
+        found = []
+        for at in rows:
+            while len(found) > 1:
+                turn = off_edge((found[-2], found[-1]), at)
+                if turn > 0 or (turn == 0 and keeps_straight):
+                    break
+                found.pop()
+            found.append(at)
+        return found
+    under, over = half(spots), half(spots[::-1])
+    if all(off_edge((spots[0], spots[-1]), at) == 0 for at in spots):
+        return []
+    return under[:-1] + over[:-1]
+
+
+def is_bounded(*numbers):
+    return all(abs(one.numerator) <= 9999 and one.denominator <= 65 for one in numbers)
+
+
+def some_path(asker, many, arcs):
+    """A path of so many pieces, arcs among them by that chance, within the bounds of what is handed in."""
+    units = [(a, b) for a in range(-65, 66) for b in range(-65, 66) if a * a + b * b == 65 * 65]
+    x, y = Fraction(asker.randint(-9, 9)), Fraction(asker.randint(-9, 9))
+    start, pieces = point(x, y), []
+    while len(pieces) < many:
+        (a, b), (c, d) = asker.choice(units), asker.choice(units)
+        length = Fraction(asker.randint(1, 13), asker.choice((1, 1, 2)))
+        mx, my = x + length * a / 65, y + length * b / 65
+        if asker.random() >= arcs:
+            if is_bounded(mx, my):
+                pieces.append(side(mx, my))
+                x, y = mx, my
+        else:
+            to_x, to_y = mx + length * c / 65, my + length * d / 65
+            if is_bounded(mx, my, to_x, to_y) and (to_x, to_y) != (x, y):
+                pieces.append(arc(mx, my, to_x, to_y, asker.choice(("left", "right"))))
+                x, y = to_x, to_y
+    return (start, tuple(pieces))
+
+
+def some_paths(seed, many):
+    """Some such paths, the same for the same seed."""
+    asker = random.Random(seed)
+    return [some_path(asker, asker.randint(1, 7), asker.choice((0, 0, 0.3, 0.7))) for _ in range(many)]
+
+
+def flat(thing):
+    """All lists in a thing, at every depth."""
+    if isinstance(thing, (list, tuple)):
+        if isinstance(thing, list):
+            yield thing
+        for each in thing:
+            yield from flat(each)
+
+
 class Kinds(unittest.TestCase):
     """Checks that hold for the very kinds: True is no number, a list no tuple."""
 
@@ -269,3 +480,27 @@ class Kinds(unittest.TestCase):
         self.assertIs(type(marks), str)
         self.assertEqual(len(marks), len(corners))
         self.assertLessEqual(set(marks), set("lrbe-"))
+
+    def assert_row(self, thing):
+        """thing is a tuple (block, edge, begin, end)."""
+        self.assertIs(type(thing), tuple)
+        self.assertEqual(len(thing), 4)
+        self.assert_number(thing[0])
+        self.assert_number(thing[1])
+        self.assert_vector(thing[2])
+        self.assert_vector(thing[3])
+        self.assertNotEqual(thing[2], thing[3])
+
+    def assert_rows(self, thing, asked):
+        """thing is the list of those tuples (block, edge, begin, end)."""
+        self.assertIs(type(thing), list)
+        for each in thing:
+            self.assert_row(each)
+        self.assertEqual(thing, asked)
+
+    def assert_paths(self, thing, asked):
+        """thing is the list of those paths."""
+        self.assertIs(type(thing), list)
+        for each in thing:
+            self.assert_path(each)
+        self.assertEqual(thing, asked)

@@ -27,6 +27,20 @@ TOLD = {
     },
     "near": {"apart": ["path", "number", "point"], "is_near": ["path", "point", "by"]},
     "blocks": {"blocks": ["path", "far", "steps"], "most_off": ["path", "far", "steps"]},
+    "patches": {
+        "rim": ["blocks", "marks"], "size_of": ["blocks"], "is_in": ["blocks", "point"],
+        "is_within": ["block", "point"], "is_clear": ["blocks", "begin", "end"],
+    },
+    "ways": {
+        "stretches": ["path", "side", "far", "steps"], "ways": ["path", "side", "far", "steps"],
+        "left_out": ["path", "side", "far", "steps"],
+        "shows_left_out": ["path", "side", "far", "steps", "thing"],
+    },
+    "leads": {
+        "lead_in": ["path", "side", "far", "steps", "way", "long"],
+        "lead_out": ["path", "side", "far", "steps", "way", "long"],
+        "turned_to": ["way", "number"], "led": ["path", "side", "far", "steps", "long"],
+    },
     "errors": {"BadSheet": ["row"]},
 }
 
