@@ -28,11 +28,17 @@ def tips_of(units):
     return [tip_of(one, other) for one, other in zip(units, units[1:])]
 
 
-def fan(word, number, point, far, units, mark):
-    """The block round a point, from the first of the units to the last one."""
-    rays = [units[0]] + tips_of(units) + [units[-1]]
+def rays_of(units, is_least):
+    """The vectors to a fan's corners but its point: is_least where the fan is to be within the round."""
+    if is_least:
+        return units
+    return [units[0]] + tips_of(units) + [units[-1]]
+
+
+def fan(word, number, point, far, rays, mark):
+    """The block round a point, its other corners as far along the rays as far tells."""
     outline = [point] + [plus(point, scaled(ray, far)) for ray in rays]
-    return (word, number, tuple(outline), "-" + mark * len(units) + "-")
+    return (word, number, tuple(outline), "-" + mark * (len(rays) - 1) + "-")
 
 
 def fan_units(path, number, word, steps):
@@ -45,24 +51,25 @@ def fan_units(path, number, word, steps):
     return units_between(right_of(u), left_of(u), steps)
 
 
-def corner_fan(path, number, word, far, steps):
+def corner_fan(path, number, word, far, steps, is_least):
     """The fan at the corner of that number, which doesn't go straight on."""
-    units = fan_units(path, number, word, steps)
-    return fan("fan", number, begin_of(path, number), far, units, FAN_MARKS[word])
+    rays = rays_of(fan_units(path, number, word, steps), is_least)
+    return fan("fan", number, begin_of(path, number), far, rays, FAN_MARKS[word])
 
 
-def start_cap(path, far, steps):
+def start_cap(path, far, steps, is_least):
     """The cap at the start of a path that isn't closed."""
     u = headings(path, 0)[0]
-    return fan("cap", 0, path[0], far, units_between(left_of(u), right_of(u), steps), "e")
+    rays = rays_of(units_between(left_of(u), right_of(u), steps), is_least)
+    return fan("cap", 0, path[0], far, rays, "e")
 
 
-def end_cap(path, far, steps):
+def end_cap(path, far, steps, is_least):
     """The cap at the end of a path that isn't closed."""
     last = len(path[1]) - 1
     u = headings(path, last)[1]
-    units = units_between(right_of(u), left_of(u), steps)
-    return fan("cap", last, end_of(path[1][last]), far, units, "e")
+    rays = rays_of(units_between(right_of(u), left_of(u), steps), is_least)
+    return fan("cap", last, end_of(path[1][last]), far, rays, "e")
 
 
 def arc_units(path, number, steps):
@@ -131,18 +138,23 @@ def bends(path):
     return {number: word for number, word in corners(path) if word != "straight"}
 
 
-def blocks(path, far, steps):
-    """The list of all blocks of the path, from its start to its end."""
+def laid_blocks(path, far, steps, is_least):
+    """The list of all blocks of the path, is_least where its fans and caps are to be within the round."""
     words = bends(path)
     found = []
     for number in range(len(path[1])):
         found.extend(piece_blocks(path, number, far, steps))
         behind = (number + 1) % len(path[1])
         if behind in words:
-            found.append(corner_fan(path, behind, words[behind], far, steps))
+            found.append(corner_fan(path, behind, words[behind], far, steps, is_least))
     if is_closed(path):
         return found
-    return [start_cap(path, far, steps)] + found + [end_cap(path, far, steps)]
+    return [start_cap(path, far, steps, is_least)] + found + [end_cap(path, far, steps, is_least)]
+
+
+def blocks(path, far, steps):
+    """The list of all blocks of the path, from its start to its end."""
+    return laid_blocks(path, far, steps, False)
 
 
 def widened(one, least):

@@ -36,33 +36,43 @@ def is_on_ray(path, number, point):
     return is_between(first, last, minus(point, path[1][number][1]))
 
 
-def is_near_circle(path, number, point, by):
-    """Whether point is less than by away from the circle on which the arc of that number is."""
+def is_near_circle(path, number, point, by, below):
+    """Whether point is so near to the circle on which the arc of that number is."""
     way = minus(point, path[1][number][1])
     square = dot(way, way)
     radius = radius_of(path, number)
     # The way's length may be no fraction, so its square is compared with those of both bounds.
     high, low = added(radius, by), taken(radius, by)
-    if compared(square, times(high, high)) >= 0:
+    if compared(square, times(high, high)) >= below:
         return False
-    return low[0] < 0 or compared(square, times(low, low)) > 0
+    return low[0] < 0 or compared(times(low, low), square) < below
 
 
-def is_near_piece(path, number, point, by):
-    """Whether point is less than by away from the side, or, on a ray that meets it, from the arc of that number."""
+def is_near_piece(path, number, point, by, below):
+    """Whether point is so near to the side, or, on a ray that meets it, to the arc of that number."""
     if is_side(path[1][number]):
-        return compared(apart(path, number, point), times(by, by)) < 0
-    return is_on_ray(path, number, point) and is_near_circle(path, number, point, by)
+        return compared(apart(path, number, point), times(by, by)) < below
+    return is_on_ray(path, number, point) and is_near_circle(path, number, point, by, below)
 
 
-def is_near(path, point, by):
-    """Whether some point of the path is less than by away from point."""
+def is_so_near(path, point, by, below):
+    """Whether some point of the path is less than by away from point: below 0; or by at most: below 1."""
     for number in range(len(path[1])):
-        if is_near_piece(path, number, point, by):
+        if is_near_piece(path, number, point, by, below):
             return True
     # Of an arc that the ray through point misses an end is the nearest.
     for end in ends_of(path):
         off = minus(point, end)
-        if compared(dot(off, off), times(by, by)) < 0:
+        if compared(dot(off, off), times(by, by)) < below:
             return True
     return False
+
+
+def is_near(path, point, by):
+    """Whether some point of the path is less than by away from point."""
+    return is_so_near(path, point, by, 0)
+
+
+def is_reached(path, point, by):
+    """Whether some point of the path is at most by away from point."""
+    return is_so_near(path, point, by, 1)

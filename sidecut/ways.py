@@ -128,14 +128,6 @@ def has_form(thing):
     return True
 
 
-def is_rising(rows):
-    """Whether the rows (number, low, high, bar) rise and none reaches into the next one."""
-    for one, other in zip(rows, rows[1:]):
-        if one[0] > other[0] or (one[0] == other[0] and compared(one[2], other[1]) > 0):
-            return False
-    return True
-
-
 def are_barred(path, side, far, steps, rows):
     """Whether each of the rows (number, low, high, bar) is of a side that its bar bars there."""
     laid = blocks(path, far, steps)
@@ -151,7 +143,7 @@ def are_barred(path, side, far, steps, rows):
 
 
 def in_whole(rows):
-    """What rising rows (number, low, high, bar) make up together, whatever bars it."""
+    """The rows (number, low, high, bar) as (number, low, high), each that begins where the last one ends put to it."""
     found = []
     for number, low, high, bar in rows:
         if found and found[-1][0] == number and found[-1][2] == low:
@@ -163,8 +155,7 @@ def in_whole(rows):
 
 def shows_left_out(path, side, far, steps, thing):
     """Whether thing tells what the ways leave out, each part of it with a block that bars it there."""
-    if not has_form(thing) or not is_rising(thing):
+    if not has_form(thing) or not are_barred(path, side, far, steps, thing):
         return False
-    if not are_barred(path, side, far, steps, thing):
-        return False
+    # Rows that don't rise, or reach into the next one, are put together otherwise: so they differ here.
     return in_whole(thing) == in_whole(left_out(path, side, far, steps))

@@ -57,6 +57,11 @@ def arc(mx, my, x, y, turn):
     return ("arc", point(mx, my), point(x, y), turn)
 
 
+def along(begin, *ends):
+    """The path of sides along such points."""
+    return (point(*begin), tuple(side(x, y) for x, y in ends))
+
+
 UNITS = [whole(1, 0), whole(0, 1), whole(-1, 0), whole(0, -1), ((3, 5), (4, 5)), ((-4, 5), (3, 5)),
          ((-5, 13), (-12, 13)), ((8, 17), (-15, 17)), unit("1/100"), unit("-1/100"),
          unit("-99/100"), unit(99), unit(-99), unit(Fraction(1, BIG)), unit(Fraction(BIGGER, BIG))]

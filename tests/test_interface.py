@@ -41,6 +41,15 @@ TOLD = {
         "lead_out": ["path", "side", "far", "steps", "way", "long"],
         "turned_to": ["way", "number"], "led": ["path", "side", "far", "steps", "long"],
     },
+    "rounds": {"rounds": ["path", "side", "far", "step", "many", "steps"]},
+    "cuts": {
+        "is_cut": ["ways", "far", "point"], "cut_bounds": ["ways", "far", "steps"],
+        "corners_left": ["path", "side", "far", "steps"],
+    },
+    "texts": {
+        "fraction_text": ["one"], "fraction_from": ["text"], "path_text": ["path"], "path_from": ["text"],
+    },
+    "desk": {"answers": ["text"]},
     "errors": {"BadSheet": ["row"]},
 }
 

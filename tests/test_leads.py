@@ -8,8 +8,8 @@ from sidecut.leads import lead_in, lead_out, led, turned_to
 from sidecut.near import is_near
 from sidecut.paths import is_closed, is_path
 from sidecut.ways import ways
-from tests.kinds import (BIG, ORIGIN, PATHS, RIGHT_SQUARE, SQUARE, Kinds, between, crossing_parts, outline_of,
-                         own_is_within, pair, point, ratio, side, some_paths, whole)
+from tests.kinds import (BIG, ORIGIN, PATHS, RIGHT_SQUARE, SQUARE, Kinds, along, between, crossing_parts,
+                         outline_of, own_is_within, pair, point, ratio, side, some_paths, whole)
 
 SIDES = ("left", "right")
 FLAT = (ORIGIN, (side(4, 0),))
@@ -18,11 +18,6 @@ BEND = (whole(0, 6), (side(0, 0), side(4, 0), side(4, 6)))
 HOOK = (ORIGIN, (side(10, 0), side(10, 5), side(5, 5), side(5, -5)))
 
 SOME = [*PATHS.values(), FLAT, BEND, HOOK, *some_paths(41, 10)]
-
-
-def along(begin, *ends):
-    """The path of sides along such points."""
-    return (point(*begin), tuple(side(x, y) for x, y in ends))
 
 
 def own_lead(path, far, steps, begin, end):

@@ -9,8 +9,9 @@ from sidecut.near import apart, is_near
 from sidecut.patches import rim
 from sidecut.paths import is_path, mirrored, moved, turned_about
 from sidecut.ways import left_out, shows_left_out, stretches, ways
-from tests.kinds import (BIG, ORIGIN, PATHS, RIGHT_SQUARE, SQUARE, Kinds, between, crossed, crossing_parts,
-                         edges_of, less, off_edge, outline_of, pair, point, ratio, side, some_paths, whole)
+from tests.kinds import (BIG, ORIGIN, PATHS, RIGHT_SQUARE, SQUARE, Kinds, along, arc, between, crossed,
+                         crossing_parts, edges_of, less, off_edge, outline_of, pair, point, ratio, side,
+                         some_paths, whole)
 
 SIDES = ("left", "right")
 FLAT = (ORIGIN, (side(4, 0),))
@@ -29,11 +30,6 @@ def slot(wide):
 
 def row(number, edge, begin, end):
     return (number, edge, point(*begin), point(*end))
-
-
-def along(begin, *ends):
-    """The path of sides along such points."""
-    return (point(*begin), tuple(side(x, y) for x, y in ends))
 
 
 def part(number, low, high, bar):
@@ -228,6 +224,13 @@ class Ways(Kinds):
         path = along((3, 0), (8, 0), (8, 5), (5, 5), (5, 8), (0, 8), (0, 3), (3, 3), (3, 0))
         self.assert_paths(ways(path, "left", (1, 1), 1),
                           [along((4, 1), (7, 1), (7, 4), (4, 4), (4, 7), (1, 7), (1, 4), (4, 4), (4, 1))])
+
+    def test_a_closed_way_goes_not_on_where_another_one_begins(self):
+        # The first stretch begins at (4, 4), where the corners of two rooms meet: the small arc bears none inside.
+        path = (whole(6, 4), (arc(5, 4, 5, 5, "left"), side(5, 8), side(0, 8), side(0, 3), side(3, 3), side(3, 0),
+                              side(6, 0), side(6, 4)))
+        self.assert_paths(ways(path, "left", (1, 1), 1), [along((4, 4), (4, 7), (1, 7), (1, 4), (4, 4)),
+                                                          along((5, 4), (4, 4), (4, 1), (5, 1), (5, 4))])
 
     def test_several_ways(self):
         self.assert_paths(ways(CROSSING, "right", (1, 1), 1), [
@@ -470,6 +473,14 @@ class Shows(Kinds):
         thing = self.told()
         thing[:1] = [part(0, 0, "1/999", 6), part(0, "1/999", "1/5", 6), part(0, "1/5", "1/4", 6)]
         self.assert_shows(True, thing)
+        thing[-1:] = [part(3, "3/4", "4/5", 0), part(3, "4/5", 1, 0)]
+        self.assert_shows(True, thing)
+        thing[5:6] = [part(1, "3/4", "7/8", 4), part(1, "7/8", 1, 4)]
+        self.assert_shows(True, thing)
+        thing[5], thing[6] = thing[6], thing[5]
+        self.assert_shows(False, thing)
+        thing[5], thing[6] = thing[6], thing[5]
+        self.assert_shows(True, thing)
         thing[1] = part(0, "2/999", "1/5", 6)
         self.assert_shows(False, thing)
         thing[1] = part(0, "1/1000", "1/5", 6)
@@ -529,6 +540,16 @@ class Shows(Kinds):
                 asked = bar == thing[at][3]
                 thing[at] = thing[at][:3] + (bar,)
                 self.assert_shows(asked, thing)
+
+    def test_a_bar_below_nought_is_none(self):
+        path = PATHS["mid square"]
+        last, told = len(blocks(path, (1, 1), 1)) - 1, left_out(path, "left", (1, 1), 1)
+        at = [each[3] for each in told].index(last)
+        self.assert_shows(True, told, path)
+        for bar in (-1, -1 - last):
+            thing = list(told)
+            thing[at] = told[at][:3] + (bar,)
+            self.assert_shows(False, thing, path)
 
     def test_a_bar_that_bars_there_too(self):
         path = slot("3/2")
