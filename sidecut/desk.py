@@ -25,26 +25,25 @@ def is_bounded(one, most_d):
     return abs(one[0]) <= MOST_N and one[1] <= most_d
 
 
-def read_any(word):
-    """The fraction that a word tells, of any size, or None."""
+def read_fraction(word):
+    """The fraction that a word tells, within the bounds, or None."""
     try:
-        return fraction_from(word)
+        one = fraction_from(word)
     except BadNumber:
         return None
+    return one if is_bounded(one, MOST_D) else None
 
 
 def read_from_nought(word):
-    """The fraction from 0 on that a word tells, of any size, or None."""
-    one = read_any(word)
+    """The fraction from 0 on that a word tells, or None."""
+    one = read_fraction(word)
     return None if one is None or one[0] < 0 else one
 
 
 def read_up_to(word, most):
-    """The fraction above 0 and at most so great that a word tells, within the bounds, or None."""
-    one = read_any(word)
-    if one is None or not is_bounded(one, MOST_D) or one[0] <= 0 or compared(one, (most, 1)) > 0:
-        return None
-    return one
+    """The fraction above 0 and at most so great that a word tells, or None."""
+    one = read_fraction(word)
+    return None if one is None or one[0] <= 0 or compared(one, (most, 1)) > 0 else one
 
 
 def read_far(word):
@@ -186,11 +185,11 @@ def rounds_answer(path, cutter, values):
 
 
 READERS = {
-    "any": read_any, "by": read_from_nought, "far": read_far, "long": read_long, "many": read_many,
+    "by": read_from_nought, "far": read_far, "fraction": read_fraction, "long": read_long, "many": read_many,
     "side": read_side, "step": read_step, "steps": read_steps,
 }
 FORMS = {
-    "cutter": ("far", "steps"), "way": ("side",), "left": ("side",), "near": ("any", "any", "by"),
+    "cutter": ("far", "steps"), "way": ("side",), "left": ("side",), "near": ("fraction", "fraction", "by"),
     "closed": (), "corners": (), "off": (), "size": (), "cut": ("side",), "lead": ("side", "long"),
     "rounds": ("side", "step", "many"),
 }

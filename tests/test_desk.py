@@ -9,7 +9,7 @@ from sidecut.near import is_near
 from sidecut.patches import size_of
 from sidecut.paths import corners, is_closed
 from sidecut.rounds import rounds
-from sidecut.texts import path_text
+from sidecut.texts import path_from, path_text
 from sidecut.ways import left_out, ways
 from tests.kinds import PATHS, Kinds, point, some_paths
 
@@ -76,7 +76,7 @@ class Answers(Desk):
                              "-"])
 
     def test_near(self):
-        self.assert_answers([SQUARE, "near 2 2 2", "near 2 2 2001/1000", "near 0 0 0", "near 0 0 1/9", "near -1 -1 7/5",
+        self.assert_answers([SQUARE, "near 2 2 2", "near 2 2 1999/999", "near 0 0 0", "near 0 0 1/9", "near -1 -1 7/5",
                              "near -1 -1 3/2"], ["no", "yes", "no", "yes", "no", "yes"])
 
     def test_closed(self):
@@ -172,8 +172,7 @@ class Bounds(Desk):
         there = " arc right -9996/65 -9999/65 -9993/65 -9999/65"
         back = " arc right -9996/65 -9999/65 -9999/65 -9999/65"
         self.assert_answers(["path from -9999/65 -9999/65" + (there + back) * 6, "closed"], ["yes"])
-        one, other = "7" * 59 + "9/" + "1" + "0" * 59, "1/" + "9" * 60
-        self.assert_answers([SQUARE, f"near {one} -{one} {other}"], ["no"])
+        self.assert_answers([SQUARE, "near -9998/999 -9998/999 9998/999"], ["no"])
 
     def test_far(self):
         for far in ("50", "1/999", "49/999", "9999/998", "9999/200", "1", "49"):
@@ -229,12 +228,33 @@ class Bounds(Desk):
         for many in ("0", "5", "-1", "1/2", "01", "", "x", "11", "34"):
             self.assert_wrong(f"rounds left 1 {many}")
 
-    def test_near_is_of_any_size(self):
-        self.assert_answers([SQUARE, "near 10000 0 9997", "near 10000 0 9996", f"near {'9' * 60} 0 1",
-                             f"near 0 0 1/{'9' * 60}", f"near -1/{'9' * 60} 0 1/{'9' * 59}"],
-                            ["yes", "no", "no", "yes", "yes"])
-        for row in ("near 0 0 -1", "near 0 0 -1/2", f"near {'9' * 61} 0 1", f"near 0 0 {'9' * 61}", "near 0 -0 1"):
+    def test_near_at_the_bounds(self):
+        self.assert_answers([SQUARE, "near 9999 0 9996", "near 9999 0 9995", "near -9999 0 9999", "near 0 9999 9996",
+                             "near 0 -9999 9999", "near 0 -9999 9998", "near 2 2 9999", "near 2 2 9999/998",
+                             "near -1/999 0 1/998", "near 0 -1/999 1/999", "near 0 0 1/999",
+                             "near -9998/999 2 9997/998", "near 2 -9998/999 9998/999"],
+                            ["yes", "no", "no", "yes", "no", "no", "yes", "yes", "yes", "no", "yes", "yes", "no"])
+
+    def test_near_beyond_the_bounds(self):
+        for number in ("10000", "1/1000", "10000/7", "2001/1000", "9999/1000", "10000/999", "9" * 60,
+                       "1/" + "9" * 60, "9" * 61, "1/" + "9" * 61):
+            for one in (number, "-" + number):
+                for row in (f"near {one} 0 1", f"near 0 {one} 1", f"near 0 0 {one}"):
+                    self.assert_wrong(row)
+                    self.assert_wrong(row, [SQUARE])
+
+    def test_near_by_less_than_nought(self):
+        self.assert_answers([SQUARE, "near 0 0 0"], ["no"])
+        for row in ("near 0 0 -1", "near 0 0 -1/2", "near 0 0 -1/999", "near 0 0 -9999", "near 0 0 -0", "near 0 -0 1"):
             self.assert_wrong(row)
+
+    def test_near_by_itself_has_no_bounds(self):
+        path = path_from(SQUARE.removeprefix("path "))
+        much = 10 ** 60
+        self.assertIs(is_near(path, point(much, 0), (much - 3, 1)), True)
+        self.assertIs(is_near(path, point(much, 0), (much - 4, 1)), False)
+        self.assertIs(is_near(path, ((-1, much), (0, 1)), (1, much - 1)), True)
+        self.assertIs(is_near(path, ((-1, much), (0, 1)), (1, much)), False)
 
 
 class Wrong(Desk):
